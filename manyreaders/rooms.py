@@ -61,6 +61,18 @@ def guests_with(room, words):
     return tuple([guest for guest, word in enumerate(room[0]) if word in words])
 
 
+def with_word(room, guest, word):
+    """The room with this word within for the guest."""
+    within, waits = room
+    return (within[:guest] + (word,) + within[guest + 1:], waits)
+
+
+def without_wait(room, guest):
+    """The room without the guest's entry in waits."""
+    within, waits = room
+    return (within, tuple([entry for entry in waits if entry[0] != guest]))
+
+
 def waiting(room, guest):
     """What the guest waits for: "read", "write", "up" of a rising one, else None."""
     # A search, not an index: of a number that is no guest of the room None is told, too.
