@@ -84,6 +84,11 @@ def waiting(room, guest):
     return None
 
 
+def waits_in(room, guest):
+    """Whether the guest waits in waits: a rising one doesn't."""
+    return waiting(room, guest) in WANTS
+
+
 def is_safe(rule, room):
     """Whether those within may be there together by the rule."""
     most = rule[1]

@@ -1,6 +1,7 @@
 """The package's own files keep to the form asked of them, as far as a plain look can tell."""
 
 import ast
+import builtins
 import pathlib
 import re
 import unittest
@@ -19,6 +20,13 @@ BARRED_WORDS = re.compile(
     r"\b(type|typing|typing_extensions|enum|Enum|IntEnum|StrEnum|Flag|IntFlag|Generic|Protocol|ABC|ABCMeta|namedtuple"
     r"|NamedTuple|TypedDict|TYPE_CHECKING|abstractmethod)\b"
     r"|dataclass|overload|contextmanager"
+)
+
+
+METHODS = set(
+    "append clear copy count endswith extend find get index insert isalnum isalpha isdigit islower isspace isupper items "
+    "join keys ljust lower lstrip partition pop remove replace reverse rfind rjust rpartition rsplit rstrip setdefault "
+    "split splitlines startswith strip update upper values zfill bit_length add discard".split()
 )
 
 
@@ -45,6 +53,24 @@ def bound_names(tree):
         elif isinstance(node, ast.ExceptHandler) and node.name:
             names.append(node.name)
     return names
+
+
+def local_names(tree):
+    """Every parameter, and every name that a def gives a value."""
+    names = []
+    for node in ast.walk(tree):
+        if isinstance(node, ast.FunctionDef):
+            for part in ast.walk(node):
+                if isinstance(part, ast.arg):
+                    names.append(part.arg)
+                elif isinstance(part, ast.Name) and isinstance(part.ctx, ast.Store):
+                    names.append(part.id)
+    return names
+
+
+def drawn(tree):
+    """The modules that a file draws from."""
+    return [node.module.split(".")[1] for node in ast.walk(tree) if isinstance(node, ast.ImportFrom)]
 
 
 class LanguageTests(unittest.TestCase):
@@ -99,6 +125,56 @@ class LanguageTests(unittest.TestCase):
             for node in ast.walk(tree):
                 if isinstance(node, ast.Name) and node.id not in bound:
                     self.assertIn(node.id, BUILT_IN, path.name)
+
+    def test_no_local_is_called_like_an_import_or_a_class(self):
+        for path, tree in trees():
+            taken = [alias.name for node in ast.walk(tree) if isinstance(node, ast.ImportFrom) for alias in node.names]
+            taken += [node.name for node in tree.body if isinstance(node, ast.ClassDef)]
+            self.assertEqual(set(taken) & set(local_names(tree)), set(), path.name)
+            self.assertEqual(len(set(taken)), len(taken), path.name)
+            self.assertEqual(set(dir(builtins)) & set(local_names(tree)), set(), path.name)
+
+    def test_no_two_files_draw_from_one_another(self):
+        left = {path.stem: set(drawn(tree)) for path, tree in trees()}
+        while left:
+            free = [name for name, needs in left.items() if not needs & set(left)]
+            self.assertTrue(free, left)
+            for name in free:
+                del left[name]
+
+    def test_statements_and_comparisons(self):
+        for path, tree in trees():
+            for node in ast.walk(tree):
+                if isinstance(node, (ast.For, ast.While)):
+                    self.assertEqual(node.orelse, [], (path.name, node.lineno))
+                if isinstance(node, ast.Compare):
+                    things = [node.left] + node.comparators
+                    for at, op in enumerate(node.ops):
+                        if isinstance(op, (ast.Is, ast.IsNot)):
+                            plain = [isinstance(thing, ast.Constant) for thing in things[at:at + 2]]
+                            self.assertIn(True, plain, (path.name, node.lineno))
+
+    def test_methods_and_values(self):
+        own = {node.attr for path, tree in trees() for node in ast.walk(tree)
+               if isinstance(node, ast.Attribute) and isinstance(node.ctx, ast.Store)}
+        for path, tree in trees():
+            for node in ast.walk(tree):
+                if isinstance(node, ast.Attribute):
+                    self.assertIn(node.attr, METHODS | own, (path.name, node.lineno))
+
+    def test_sets_are_not_kept(self):
+        for path, tree in trees():
+            asked = set()
+            for node in ast.walk(tree):
+                if isinstance(node, ast.Call) and isinstance(node.func, ast.Name) and node.func.id in ("len", "sorted"):
+                    asked.update(id(part) for part in node.args)
+                elif isinstance(node, ast.Compare):
+                    asked.update(id(part) for part in node.comparators)
+            for node in ast.walk(tree):
+                made = isinstance(node, (ast.Set, ast.SetComp)) or (
+                    isinstance(node, ast.Call) and isinstance(node.func, ast.Name) and node.func.id == "set"
+                )
+                self.assertTrue(not made or id(node) in asked, (path.name, getattr(node, "lineno", 0)))
 
 
 if __name__ == "__main__":
