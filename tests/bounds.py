@@ -18,3 +18,21 @@ ONE_MORE = (
         ("down", 2), ("down", 3), ("leave", 0), ("leave", 1), ("leave", 4), ("stop", 0), ("stop", 3), ("stop", 4),
     ),
 )
+# (one, other, n, deeds): 2000 pairs are come to, then the rules part.
+PARTS_JUST = (
+    ("rows", 3, 0, 0), ("rows", 4, 0, 0), 5,
+    (
+        ("write", 4, None), ("write", 0, None), ("read", 3, 1), ("down", 3), ("read", 1, None), ("write", 1, None),
+        ("read", 1, 1), ("leave", 3), ("stop", 4), ("up", 3), ("read", 0, 1), ("stop", 2), ("read", 3, None),
+        ("down", 2), ("tick",), ("write", 2, 1),
+    ),
+)
+# (one, other, n, deeds): by the deed ahead of the one that would part the rules, in the same pair, the 2001st is come to.
+PARTS_LATE = (
+    ("rows", 3, 0, 0), ("rows", 4, 0, 0), 5,
+    (
+        ("write", 4, None), ("write", 0, None), ("read", 3, 1), ("down", 3), ("read", 0, 1), ("write", 1, None),
+        ("read", 1, 1), ("leave", 3), ("read", 1, None), ("tick",), ("stop", 4), ("stop", 2), ("read", 3, None),
+        ("down", 2), ("up", 3), ("write", 2, 1),
+    ),
+)

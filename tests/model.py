@@ -220,3 +220,60 @@ def model_book(rule, n, deeds):
                     found.append(told[0])
         newest = found
     return rows
+
+
+def model_held(one, other, n, deeds):
+    """What held tells, and how many pairs are come to ahead of the parting or in all; without any bound."""
+    start = (empty_room(n), empty_room(n))
+    rows = {start: ()}
+    newest = [start]
+    while newest:
+        found = []
+        for pair in newest:
+            for deed in deeds:
+                first, second = model_stepped(one, pair[0], deed), model_stepped(other, pair[1], deed)
+                if first is None and second is None:
+                    continue
+                if first is None or second is None or first[1] != second[1]:
+                    return ("parts", rows[pair] + (deed,)), len(rows)
+                behind = (first[0], second[0])
+                if behind not in rows:
+                    rows[behind] = rows[pair] + (deed,)
+                    found.append(behind)
+        newest = found
+    return ("alike", tuple(rows)), len(rows)
+
+
+PLAN_WORDS = ("read", "write", "up", "down", "leave")
+
+
+def model_step(rule, plans, room, counts, guest):
+    """(room, counts, deed, events) behind the guest's step, None where it can't step; deed None of a word passed over."""
+    rising = room[0][guest] == "rising"
+    if counts[guest] == len(plans[guest]) or rising or any(entry[0] == guest for entry in room[1]):
+        return None
+    word = plans[guest][counts[guest]]
+    deed = (word, guest, None) if word in ("read", "write") else (word, guest)
+    counts = counts[:guest] + (counts[guest] + 1,) + counts[guest + 1:]
+    told = model_stepped(rule, room, deed)
+    return (room, counts, None, ()) if told is None else (told[0], counts, deed, told[1])
+
+
+def model_weave(rule, plans, draw):
+    """A weaving drawn step by step, as far as it goes, with the rooms behind each step and its events."""
+    room, counts = empty_room(len(plans)), (0,) * len(plans)
+    weaving, rooms, brought = [], [room], []
+    while True:
+        steps = [(guest, model_step(rule, plans, room, counts, guest)) for guest in range(len(plans))]
+        steps = [(guest, step) for guest, step in steps if step is not None]
+        if not steps:
+            return tuple(weaving), rooms, brought
+        guest, (room, counts, deed, events) = draw.choice(steps)
+        weaving.append(guest)
+        rooms.append(room)
+        brought.append(events)
+
+
+def some_plans(n, draw, most=6):
+    """Plans of n guests of none to so many words each."""
+    return tuple(tuple(draw.choice(PLAN_WORDS) for word in range(draw.randrange(most + 1))) for guest in range(n))
