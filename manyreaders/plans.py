@@ -3,11 +3,10 @@
 from manyreaders.deeds import can_do, done
 from manyreaders.errors import NoDeed
 from manyreaders.kinds import is_between, is_word
-from manyreaders.rooms import WANTS, empty, waiting
+from manyreaders.rooms import MOST_GUESTS, WANTS, empty, waiting
 
 PLAN_WORDS = ("read", "write", "up", "down", "leave")
 MOST_WORDS = 6
-MOST_GUESTS = 5
 
 
 def is_plans(thing):

@@ -6,6 +6,7 @@ WITHIN_WORDS = ("out", "reads", "rising", "writes", "raised")
 READING_WORDS = ("reads", "rising")
 WRITING_WORDS = ("writes", "raised")
 WANTS = ("read", "write")
+MOST_GUESTS = 5
 GREATEST_MARK = 999
 GREATEST_LEFT = 9
 

@@ -36,3 +36,19 @@ PARTS_LATE = (
         ("down", 2), ("up", 3), ("write", 2, 1),
     ),
 )
+# (rule, plans): weavings come to just 4000 of what is gone on with, some of them stuck.
+WOVEN_JUST = (
+    ("turns", 0, 0, 1),
+    (
+        ("write", "leave", "leave", "up"), ("write", "up", "up", "down", "leave", "write"),
+        ("down", "read", "read", "up", "write", "down"), ("read", "down", "down", "leave", "write", "leave"),
+    ),
+)
+# (rule, plans): they would come to 4001.
+WOVEN_ONE_MORE = (
+    ("passes", 0, 1, 1),
+    (
+        ("write", "leave"), ("read", "up", "leave", "down", "write"), ("read", "down", "up", "down", "leave", "down"),
+        ("write", "leave", "leave", "leave", "down"),
+    ),
+)

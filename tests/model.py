@@ -277,3 +277,53 @@ def model_weave(rule, plans, draw):
 def some_plans(n, draw, most=6):
     """Plans of n guests of none to so many words each."""
     return tuple(tuple(draw.choice(PLAN_WORDS) for word in range(draw.randrange(most + 1))) for guest in range(n))
+
+
+def model_states(rule, plans):
+    """All unlike (room, counts, number, met) that weavings come to; without any bound."""
+    n = len(plans)
+    start = (empty_room(n), (0,) * n, 0, ((),) * n)
+    seen, newest = {start}, [start]
+    while newest:
+        room, counts, number, met = newest.pop()
+        for guest in range(n):
+            step = model_step(rule, plans, room, counts, guest)
+            if step is not None:
+                behind, later, deed, events = step
+                page = number + model_turns_page(room, deed)
+                numbers = [list(told) for told in met]
+                for word, who in events:
+                    if word in ("in", "steps"):
+                        numbers[who].append(page)
+                state = (behind, later, page, tuple(tuple(told) for told in numbers))
+                if state not in seen:
+                    seen.add(state)
+                    newest.append(state)
+    return seen
+
+
+def model_turns_page(room, deed):
+    """1 where by the deed, done in the room, one that writes leaves or steps down, else 0."""
+    return int(deed is not None and deed[0] in ("down", "leave") and room[0][deed[1]] in ("writes", "raised"))
+
+
+def every_weaving(rule, plans):
+    """All weavings that can't go on, one by one: (weaving, room, whether whole, the numbers met by each)."""
+    n = len(plans)
+    pending = [((), empty_room(n), (0,) * n, 0, ((),) * n)]
+    while pending:
+        weaving, room, counts, number, met = pending.pop()
+        able = False
+        for guest in range(n):
+            step = model_step(rule, plans, room, counts, guest)
+            if step is not None:
+                able = True
+                behind, later, deed, events = step
+                page = number + model_turns_page(room, deed)
+                numbers = list(met)
+                for word, who in events:
+                    if word in ("in", "steps"):
+                        numbers[who] += (page,)
+                pending.append((weaving + (guest,), behind, later, page, tuple(numbers)))
+        if not able:
+            yield weaving, room, counts == tuple(len(plan) for plan in plans), met
