@@ -120,6 +120,12 @@ class StuckTests(WeavingCase):
         self.assertEqual(outcomes(ROWS, plans), (((), (), (0,)), ((), (0,), ()), ((0,), (), ())))
         self.assertEqual(stuck(ROWS, plans[:2] + (("write", "leave"),)), (0, 1, 2))
 
+    def test_no_weaving_is_whole(self):
+        plans = (("write", "read"), ("write", "read"))
+        for rule in every_rule(ks=(1,)):
+            self.assertEqual(self.held(rule, plans), (0, (0, 0, 1)))
+            self.assertEqual((how_many(rule, plans), outcomes(rule, plans)), (0, ()))
+
     def test_the_first_of_several(self):
         # A shorter one first, though (0, 0, 2, 1) is the lesser tuple.
         plans = (("read", "leave"), ("read", "leave"), ("write",))
